@@ -1,0 +1,100 @@
+"""Worlds and strange things that several tests need."""
+
+import itertools
+import random
+
+from headamid.worlds import World
+
+# Things that equal or resemble the numbers 0 and 1, and things of other kinds.
+STRANGE = (None, True, False, 1.0, 0.0, -1, 99, "0", "", b"0", (), [], (0,), [0], {}, {0: 0}, {0}, range(2), object())
+
+
+class Same:
+    """A thing that says that it equals everything."""
+
+    def __eq__(self, other):
+        return True
+
+    def __hash__(self):
+        return 0
+
+
+SAME = Same()
+
+NO_SEQUENCES = (None, True, 0, 1.5, "", "01", b"", {}, {0: 1}, set(), {0, 1}, range(2), iter(()), World, SAME)
+
+
+def plain_world(bases, owns):
+    """The world of these bases and numbers of own fields, without methods."""
+    return World([(row, own, ()) for row, own in zip(bases, owns)])
+
+
+ONE = plain_world([()], [0])
+ROOTS = plain_world([(), (), ()], [1, 2, 0])
+CHAIN = plain_world([(), (0,), (1,)], [1, 1, 2])
+DIAMOND = plain_world([(), (0,), (0,), (1, 2)], [1, 1, 2, 1])
+EXAMPLE = plain_world([(), (0,), (0,), (0,), (1, 2), (2, 3)], [1, 1, 1, 1, 0, 0])
+THREE = plain_world([(), (0,), (0,), (0,), (1, 2), (2, 3), (1, 3)], [1, 1, 1, 1, 0, 0, 0])
+# Classes 2 and 3 make the fields (0, 0) and (1, 0) unlike, classes 4 and 5 make them alike.
+BOTH_SENSES = plain_world([(), (), (0,), (1,), (0, 1), (), (2, 3), (4, 5)], [1, 1, 0, 0, 0, 1, 0, 0])
+# The fields of 2 lie within those of 1 though neither is an elder of the other.
+WITHIN = plain_world([(), (0,), (0,), (1, 2)], [1, 1, 0, 0])
+TWELVE = plain_world([()] + [(c,) for c in range(11)], [1] * 12)
+WIDE = plain_world([()] * 6 + [(0, 1), (1, 2), (3,), (3, 4), (8, 9), (10,)], [3] * 12)
+
+NAMED = (ONE, ROOTS, CHAIN, DIAMOND, EXAMPLE, THREE, BOTH_SENSES, WITHIN, TWELVE, WIDE)
+
+
+def random_world(rng, classes, most_fields, methods=False):
+    """A world of some classes whose bases, fields and methods are drawn."""
+    entries = []
+    for c in range(classes):
+        bases = rng.sample(range(c), rng.randint(0, min(c, 3)))
+        own = rng.randint(0, most_fields)
+        names = rng.sample(range(6), rng.randint(0, 3)) if methods else []
+        entries.append((bases, own, names))
+    return World(entries)
+
+
+def random_worlds(seed, many, most_classes, most_fields, methods=False):
+    """A list of worlds that is the same at each call."""
+    rng = random.Random(seed)
+    return [random_world(rng, rng.randint(1, most_classes), most_fields, methods) for _ in range(many)]
+
+
+def small_worlds(seed, many, most_in_all):
+    """Worlds of up to seven classes with few fields in all, for trying out all layings."""
+    rng = random.Random(seed)
+    found = []
+    while len(found) < many:
+        world = random_world(rng, rng.randint(1, 7), 2)
+        if len(world.all_fields) <= most_in_all:
+            found.append(world)
+    return found
+
+
+def told(thing):
+    """The attributes of a result or an error, None for None."""
+    return None if thing is None else vars(thing)
+
+
+def tie_row(tie):
+    """The six attributes of a tie, in order."""
+    return (tie.first, tie.second, tie.sense, tie.a, tie.b, tie.heir)
+
+
+def is_close(world, places):
+    """Whether places, one for each field, make a close laying: judged by counting cells."""
+    place = dict(zip(world.all_fields, places))
+    for c in range(len(world)):
+        cells = [0] + [place[f] for f in place if f[0] == c or f[0] in world.elders[c]]
+        if len(set(cells)) < len(cells) or max(cells) - min(cells) >= len(cells):
+            return False
+    return True
+
+
+def brute_layings(world):
+    """The places of all close layings, ascending, found by trying out all places."""
+    many = len(world.all_fields)
+    reach = [place for place in range(-many, many + 1) if place != 0]
+    return [row for row in itertools.product(reach, repeat=many) if is_close(world, row)]
