@@ -1,0 +1,102 @@
+"""The interface: names, arguments, kinds of things, and where each is defined."""
+
+import importlib
+import inspect
+import unittest
+
+from headamid.declaring import Declaring
+from headamid.kinds import Breach, KindRing, Kinds, Sides
+from headamid.layings import Hole, Laying, Shared
+from headamid.rings import OddRing
+from headamid.ties import Tie
+from headamid.worlds import World
+
+FUNCTIONS = {
+    "wholes": "is_sequence(thing) is_whole(thing, low=None, high=None) is_order(thing, many)",
+    "elders": "check_class(world, c) check_field(world, field) elders_of(world, c) heirs_of(world, c) "
+              "common_heirs(world, a, b) is_kin(world, c, target) on_line(world, a, b) own_fields(world, c) "
+              "fields_of(world, c)",
+    "worldtext": "world_text(world) read_world(text)",
+    "ties": "alone_fields(world, a, b) all_ties(world) base_ties(world) bound_classes(world) pieces_of(world)",
+    "layings": "mirrored_laying(world, laying) extent_of(world, laying, c) cells_of(world, laying, c) "
+               "close_fault(world, laying) apart_fault(world, laying) misfit_of(world, laying, bases)",
+    "rings": "check_sides(world, sides) broken_tie(world, sides) laying_by(world, sides) laid_world(world) "
+             "ring_fault(world, ring) count_layings(world) all_layings(world)",
+    "placetext": "laying_text(laying) read_laying(world, text)",
+    "kinds": "check_kind(kinds, kind) check_given(world, kinds, given) kept_fault(world, kinds, given) "
+             "check_kind_sides(kinds, sides) side_clash(kinds, sides) kind_sides(kinds) side_rows(kinds) "
+             "ring_fault_of(kinds, ring) threes_of(kinds) join_world(kinds, joins) ring_world(kinds, ring)",
+    "declaring": "kinds_for(declaring, bases, fields) may_meet(declaring, a, b)",
+}
+
+# Each class with its module, its constructor's arguments, and its methods and properties.
+CLASSES = (
+    (World, "worlds", "(classes)", "all_fields with_class(bases, fields, methods) without_last() renamed(order) "
+                                   "beside(other) __len__() __iter__() __eq__(other)"),
+    (Tie, "ties", "(first, second, sense, a, b, heir)", ""),
+    (Laying, "layings", "(world, places)", "place_of(field) side_words() __eq__(other)"),
+    (Shared, "layings", "(cls, cell)", ""),
+    (Hole, "layings", "(cls, cell)", ""),
+    (OddRing, "rings", "(ties)", ""),
+    (Kinds, "kinds", "(many, joined, bare=())", "are_joined(one, other) is_bare(kind) __eq__(other)"),
+    (Breach, "kinds", "(cls, first, second, what)", ""),
+    (Sides, "kinds", "(sides)", ""),
+    (KindRing, "kinds", "(ring)", ""),
+    (Declaring, "declaring", "(kinds, sides=None)", "world_now given_now places_now laying_now "
+                                                    "declare(bases, fields, *, kind) __len__()"),
+)
+
+
+def split_names(text):
+    """The names of a row with the arguments of each, None where it has none in parentheses."""
+    rows = []
+    for part in text.replace(") ", ")\n").split("\n"):
+        words = part.split("(", 1)
+        for name in words[0].split()[:-1] if len(words) > 1 else words[0].split():
+            rows.append((name, None))
+        if len(words) > 1:
+            rows.append((words[0].split()[-1], "(" + words[1]))
+    return rows
+
+
+class InterfaceTest(unittest.TestCase):
+    def test_functions(self):
+        for module, text in FUNCTIONS.items():
+            found = importlib.import_module("headamid." + module)
+            for name, arguments in split_names(text):
+                function = getattr(found, name)
+                self.assertTrue(inspect.isfunction(function), name)
+                self.assertEqual(function.__module__, "headamid." + module)
+                self.assertEqual(str(inspect.signature(function)), arguments, name)
+
+    def test_generators(self):
+        for module, name in (("rings", "all_layings"), ("kinds", "side_rows")):
+            self.assertTrue(inspect.isgeneratorfunction(getattr(importlib.import_module("headamid." + module), name)))
+
+    def test_classes(self):
+        for cls, module, arguments, names in CLASSES:
+            self.assertEqual(cls.__module__, "headamid." + module)
+            self.assertEqual(str(inspect.signature(cls)), arguments, cls)
+            for name, method_arguments in split_names(names):
+                thing = vars(cls)[name]
+                if method_arguments is None:
+                    self.assertIsInstance(thing, property)
+                else:
+                    due = method_arguments.replace("(", "(self, ").replace(", )", ")")
+                    self.assertEqual(str(inspect.signature(thing)), due, name)
+        self.assertEqual(str(inspect.signature(Kinds.in_ring)), "(many)")
+
+    def test_results_hold_the_very_things(self):
+        for cls in (Tie, Shared, Hole, OddRing, Breach, Sides, KindRing):
+            names = list(inspect.signature(cls).parameters)
+            things = [[name] for name in names]
+            result = cls(*things)
+            self.assertEqual(list(vars(result)), names)
+            for name, thing in zip(names, things):
+                self.assertIs(getattr(result, name), thing)
+            self.assertEqual(vars(cls(**dict(zip(names, things)))), vars(result))
+            self.assertNotIsInstance(result, tuple)
+
+
+if __name__ == "__main__":
+    unittest.main()
