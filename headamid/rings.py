@@ -127,16 +127,16 @@ def odd_walk(joins, start):
     """The ties of a shortest odd ring through a field, or None."""
     # A step is a field and whether the ties that led there have an odd number of unlike ones.
     came = {(start, False): None}
-    layer = [(start, False)]
-    while len(layer) > 0 and (start, True) not in came:
-        farther = []
-        for field, odd in layer:
-            for tie, other in joins[field]:
-                step = (other, odd != (tie.sense == "unlike"))
-                if step not in came:
-                    came[step] = ((field, odd), tie)
-                    farther.append(step)
-        layer = farther
+    steps = [(start, False)]
+    at = 0
+    while at < len(steps) and (start, True) not in came:
+        field, odd = steps[at]
+        at = at + 1
+        for tie, other in joins[field]:
+            step = (other, odd != (tie.sense == "unlike"))
+            if step not in came:
+                came[step] = ((field, odd), tie)
+                steps.append(step)
     if (start, True) not in came:
         return None
     return ties_back(came, (start, True))

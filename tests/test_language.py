@@ -72,7 +72,78 @@ def top_names(tree):
     return names
 
 
+CHANGES = set("append clear extend insert pop remove reverse setdefault update add discard".split())
+
+
+def parts_walked(node):
+    """The things that a loop or comprehension goes over, as texts."""
+    if isinstance(node, ast.Call) and ast.unparse(node.func) in ("enumerate", "zip", "reversed"):
+        return [text for thing in node.args for text in parts_walked(thing)]
+    if isinstance(node, ast.Call) and isinstance(node.func, ast.Attribute) and node.func.attr in (
+            "items", "keys", "values"):
+        return parts_walked(node.func.value)
+    if isinstance(node, ast.IfExp):
+        return parts_walked(node.body) + parts_walked(node.orelse)
+    if isinstance(node, ast.BoolOp):
+        return [text for thing in node.values for text in parts_walked(thing)]
+    return [ast.unparse(node)] if isinstance(node, (ast.Name, ast.Attribute, ast.Subscript)) else []
+
+
+def parts_changed(node):
+    """The things that a statement or expression changes, with all that stands in it, as texts."""
+    found = []
+    for item in ast.walk(node):
+        if isinstance(item, ast.Call) and isinstance(item.func, ast.Attribute) and item.func.attr in CHANGES:
+            found.append(ast.unparse(item.func.value))
+        elif isinstance(item, ast.Subscript) and isinstance(item.ctx, (ast.Store, ast.Del)):
+            found.append(ast.unparse(item.value))
+        elif isinstance(item, ast.AugAssign):
+            found.append(ast.unparse(item.target))
+    return found
+
+
+def other_names(function):
+    """For each name of a function all names that its assignments of a bare name give the same thing."""
+    same = []
+    for node in ast.walk(function):
+        if isinstance(node, ast.Assign):
+            for target in node.targets:
+                names = {ast.unparse(target), *parts_walked(node.value)}
+                touching = [group for group in same if group & names]
+                same = [group for group in same if not group & names] + [names.union(*touching)]
+    return same
+
+
+def walked_and_changed(function):
+    """The things that a loop of a function goes over and changes, under any of their names."""
+    same = other_names(function)
+    found = []
+    for node in ast.walk(function):
+        if isinstance(node, (ast.For, ast.ListComp, ast.DictComp, ast.SetComp)):
+            heads = [node] if isinstance(node, ast.For) else node.generators
+            rows = node.body if isinstance(node, ast.For) else [node]
+            changed = {text for row in rows for text in parts_changed(row)}
+            for text in [text for head in heads for text in parts_walked(head.iter)]:
+                names = {text}.union(*[group for group in same if text in group])
+                found += [(text, name) for name in names & changed]
+    return found
+
+
 class LanguageTest(unittest.TestCase):
+    def test_what_a_loop_goes_over_is_not_changed_in_it(self):
+        for path, tree in TREES.items():
+            for node in ast.walk(tree):
+                if isinstance(node, ast.FunctionDef):
+                    self.assertEqual(walked_and_changed(node), [], (path, node.name))
+
+    def test_changes_in_a_loop_are_seen(self):
+        for rows in ("for x in xs:\n  xs.append(x)", "for k, x in enumerate(xs):\n  xs[k] = x",
+                     "while xs:\n  ys = []\n  for x in xs:\n    ys.append(x)\n  xs = ys",
+                     "for x in xs or ys:\n  del ys[0]", "for x in self.xs:\n  self.xs.pop()"):
+            self.assertNotEqual(walked_and_changed(ast.parse(rows)), [])
+        for rows in ("for x in list(xs):\n  xs.append(x)", "for x in xs:\n  ys.append(x)"):
+            self.assertEqual(walked_and_changed(ast.parse(rows)), [])
+
     def test_files(self):
         self.assertLess(len(FILES), 101)
         for path in FOLDER.rglob("*"):
