@@ -60,6 +60,12 @@ class Declaring:
         self._given = given
         return c
 
+    def begin_with(self, world, given, laying):
+        """Takes classes over that are laid already, for go_on_from: their laying must last with these sides."""
+        self._world = world
+        self._given = given
+        self._laying = laying
+
     def __len__(self):
         return len(self._given)
 

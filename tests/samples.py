@@ -3,6 +3,7 @@
 import itertools
 import random
 
+from headamid.kinds import kept_fault
 from headamid.worlds import World
 
 # Things that equal or resemble the numbers 0 and 1, and things of other kinds.
@@ -98,3 +99,78 @@ def brute_layings(world):
     many = len(world.all_fields)
     reach = [place for place in range(-many, many + 1) if place != 0]
     return [row for row in itertools.product(reach, repeat=many) if is_close(world, row)]
+
+
+def kept_world(rng, kinds, classes, most_fields, methods=False):
+    """A world of up to so many classes that keeps the kinds, and its kinds, drawn class by class."""
+    entries, given = [], []
+    for _ in range(classes * 4):
+        c = len(entries)
+        kind = rng.randrange(kinds.many)
+        bases = rng.sample(range(c), rng.randint(0, min(c, 3)))
+        own = 0 if kind in kinds.bare else rng.randint(0, most_fields)
+        names = rng.sample(range(6), rng.randint(0, 3)) if methods else []
+        longer = entries + [(bases, own, names)]
+        if c < classes and kept_fault(World(longer), kinds, given + [kind]) is None:
+            entries, given = longer, given + [kind]
+    return (World(entries), tuple(given)) if entries else kept_world(rng, kinds, classes, most_fields, methods)
+
+
+def caught(error, call, *things, **named):
+    """The attributes of the error that a call raises, None if it raises none; other errors pass."""
+    try:
+        call(*things, **named)
+    except error as found:
+        assert type(found) is error
+        return told(found)
+    return None
+
+
+def brute_holes(world, places):
+    """The number of holes of each class, counted cell by cell; None if some class has two fields in one cell."""
+    place = dict(zip(world.all_fields, places))
+    holes = []
+    for c in range(len(world)):
+        cells = [0] + [place[f] for f in place if f[0] == c or f[0] in world.elders[c]]
+        if len(set(cells)) < len(cells):
+            return None
+        holes.append(len(set(range(min(cells), max(cells) + 1)) - set(cells)))
+    return holes
+
+
+def is_gapless(places):
+    """Whether these places and 0 are a stretch."""
+    cells = {0, *places}
+    return max(cells) - min(cells) + 1 == len(cells)
+
+
+def apart_layings(world, beyond=0):
+    """The places and holes of all layings that are apart and have no place farther than the number of fields; the
+    gapless ones alone if there are five fields or more."""
+    many = len(world.all_fields)
+    reach = [place for place in range(-many - beyond, many + beyond + 1) if place != 0]
+    found = []
+    for places in itertools.product(reach, repeat=many):
+        if many < 5 or is_gapless(places):
+            holes = brute_holes(world, places)
+            if holes is not None:
+                found.append((places, holes))
+    return found
+
+
+def ringed_worlds(seed, many, most_classes, most_in_all):
+    """Worlds many of which have no close laying: some classes with fields, and heirs of couples of them."""
+    rng = random.Random(seed)
+    found = []
+    while len(found) < many:
+        above = rng.choice((0, 0, 0, 1))
+        roots = rng.choice((3, 3, 4)) + above
+        pairs = list(itertools.combinations(range(above, roots), 2))
+        rng.shuffle(pairs)
+        entries = [([0] if above and c else [], rng.choice((1, 1, 1, 1, 0, 2)), ()) for c in range(roots)]
+        for pair in pairs[:rng.randint(1, max(1, most_classes - roots))]:
+            entries.append((list(pair)[::rng.choice((1, -1))], rng.choice((0, 0, 0, 0, 1)), ()))
+        world = World(entries)
+        if len(entries) <= most_classes and len(world.all_fields) <= most_in_all:
+            found.append(world)
+    return found

@@ -5,9 +5,14 @@ import inspect
 import unittest
 
 from headamid.declaring import Declaring
+from headamid.floors import Floor, Holed
+from headamid.holes import Least
 from headamid.kinds import Breach, KindRing, Kinds, Sides
+from headamid.ladders import Clash, Ladders, Look
+from headamid.lasting import Fleeting
 from headamid.layings import Hole, Laying, Shared
 from headamid.rings import OddRing
+from headamid.stretches import Bars, Gap, StretchRow
 from headamid.ties import Tie
 from headamid.worlds import World
 
@@ -27,6 +32,18 @@ FUNCTIONS = {
              "check_kind_sides(kinds, sides) side_clash(kinds, sides) kind_sides(kinds) side_rows(kinds) "
              "ring_fault_of(kinds, ring) threes_of(kinds) join_world(kinds, joins) ring_world(kinds, ring)",
     "declaring": "kinds_for(declaring, bases, fields) may_meet(declaring, a, b)",
+    "lasting": "tie_to_come(world, kinds, given, c) lasting_fault(world, kinds, given, laying) "
+               "count_lasting(world, kinds, given) go_on_from(world, kinds, given, laying)",
+    "ladders": "check_hues(world, hues) hue_fault(world, hues) apart_pairs(world) fewest_hues(world) floor_lot(world)",
+    "looks": "side_hues(world, kinds, given) declared_ladders(declaring) hue_meeting(declaring, hues) "
+             "kind_hues(kinds) hues_by_kind(world, kinds, given) laying_hues(world, laying)",
+    "stretches": "lot_of(world, c) row_fault(world, row) all_rows(world) stretch_row(world) is_barred(world, lot) "
+                 "join_pair(kinds) star_world(kinds, one, other)",
+    "holes": "check_weights(world, weights) class_reaches(world, laying) class_holes(world, laying) "
+             "weighed_holes(world, laying, weights) pressed_laying(world, laying) "
+             "least_split(world, weights, above) least_holes(world, weights)",
+    "floors": "is_blocked(world, lot) blocked_lots(world) ring_lot(ring) fewest_holed(world, weights) "
+              "floor_of_holes(world, weights)",
 }
 
 # Each class with its module, its constructor's arguments, and its methods and properties.
@@ -44,7 +61,22 @@ CLASSES = (
     (KindRing, "kinds", "(ring)", ""),
     (Declaring, "declaring", "(kinds, sides=None)", "world_now given_now places_now laying_now "
                                                     "declare(bases, fields, *, kind) __len__()"),
+    (Fleeting, "lasting", "(what, first, second)", ""),
+    (Ladders, "ladders", "(world, hues)", "ladder_of(c, hue) depth_of(target) one_look(c, target) clash_of(bases) "
+                                          "with_class(bases, fields, methods, hue)"),
+    (Clash, "ladders", "(cls, first, second)", ""),
+    (Look, "ladders", "(hue, place, found, answer)", ""),
+    (StretchRow, "stretches", "(world, row)", "span_test(c, target) free_gaps(bases) "
+                                              "put_class(bases, fields, methods, gap)"),
+    (Gap, "stretches", "(cls, between)", ""),
+    (Bars, "stretches", "(classes)", ""),
+    (Least, "holes", "(number, laying)", ""),
+    (Holed, "floors", "(number, classes, laying)", ""),
+    (Floor, "floors", "(number, lots)", ""),
 )
+
+GENERATORS = (("rings", "all_layings"), ("kinds", "side_rows"), ("stretches", "all_rows"))
+RESULTS = (Tie, Shared, Hole, OddRing, Breach, Sides, KindRing, Fleeting, Clash, Look, Gap, Bars, Least, Holed, Floor)
 
 
 def split_names(text):
@@ -70,7 +102,7 @@ class InterfaceTest(unittest.TestCase):
                 self.assertEqual(str(inspect.signature(function)), arguments, name)
 
     def test_generators(self):
-        for module, name in (("rings", "all_layings"), ("kinds", "side_rows")):
+        for module, name in GENERATORS:
             self.assertTrue(inspect.isgeneratorfunction(getattr(importlib.import_module("headamid." + module), name)))
 
     def test_classes(self):
@@ -87,7 +119,7 @@ class InterfaceTest(unittest.TestCase):
         self.assertEqual(str(inspect.signature(Kinds.in_ring)), "(many)")
 
     def test_results_hold_the_very_things(self):
-        for cls in (Tie, Shared, Hole, OddRing, Breach, Sides, KindRing):
+        for cls in RESULTS:
             names = list(inspect.signature(cls).parameters)
             things = [[name] for name in names]
             result = cls(*things)
