@@ -214,7 +214,8 @@ class LeastTest(unittest.TestCase):
             self.assertEqual(caught(BadWeights, least_split, ROOTS, [1, 1, 100], thing), {"index": 2})
         right = [(1, 1), [0, 0], (1, 0)]
         for index in range(4):
-            for thing in ((0, 1), (2, 0), (True, 0), (0, False), (0, 0.0), (0,), (0, 0, 0), None, 0, "00", [], {}, SAME):
+            for thing in ((0, 1), (2, 0), (True, 0), (0, False), (0, 0.0), (0,), (0, 0, 0), None, 0, "00", [], {},
+                          SAME):
                 self.assertEqual(caught(BadFields, least_split, ROOTS, weights, right[:index] + [thing, None]),
                                  {"index": index})
             for earlier in right[:index]:

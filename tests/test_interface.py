@@ -4,13 +4,17 @@ import importlib
 import inspect
 import unittest
 
+from headamid.casts import Moving, NoWay, Several, Unclear
 from headamid.declaring import Declaring
 from headamid.floors import Floor, Holed
+from headamid.heaps import Heap
 from headamid.holes import Least
 from headamid.kinds import Breach, KindRing, Kinds, Sides
 from headamid.ladders import Clash, Ladders, Look
 from headamid.lasting import Fleeting
 from headamid.layings import Hole, Laying, Shared
+from headamid.links import Links
+from headamid.partobjects import Part
 from headamid.rings import OddRing
 from headamid.stretches import Bars, Gap, StretchRow
 from headamid.ties import Tie
@@ -44,6 +48,14 @@ FUNCTIONS = {
              "least_split(world, weights, above) least_holes(world, weights)",
     "floors": "is_blocked(world, lot) blocked_lots(world) ring_lot(ring) fewest_holed(world, weights) "
               "floor_of_holes(world, weights)",
+    "walks": "walk_left(world, laying, row) walk_right(world, laying, row)",
+    "links": "flat_links(links) ways_between(links, c, target) check_way(links, way) cut_way(links, way)",
+    "partobjects": "parts_of(links, c) size_of(links, c) copies_of(links, c, target) part_cells(links, c) "
+                   "part_along(links, way) shift_along(links, way, at) holders_of(links, c, number)",
+    "casts": "cast_place(links, c, target) ways_agree(links, first, second) first_unclear(links) must_share(world) "
+             "steady_way(links, way) one_part(links, target)",
+    "definers": "check_name(name) defining_of(world, c, name) answers_of(world, c, name) definer_of(world, c, name) "
+                "two_answers(world) answers_to_come(world, bases, name) off_line(world, name)",
 }
 
 # Each class with its module, its constructor's arguments, and its methods and properties.
@@ -73,10 +85,23 @@ CLASSES = (
     (Least, "holes", "(number, laying)", ""),
     (Holed, "floors", "(number, classes, laying)", ""),
     (Floor, "floors", "(number, lots)", ""),
+    (Heap, "heaps", "(world, laying)", "cells addresses counts make_object(c) class_at(address) "
+                                       "value_at(address, field) put_value(address, field, value) "
+                                       "drop_object(address) reached_from(addresses) sweep_rest(addresses) "
+                                       "relaid_by(laying) compact_cells()"),
+    (Links, "links", "(world, shared=())", "all_links is_shared(c, base) with_shared(c, base) "
+                                           "with_class(bases, fields, shared_bases=()) __eq__(other)"),
+    (Part, "partobjects", "(way, place)", ""),
+    (Unclear, "casts", "(first, second)", ""),
+    (NoWay, "casts", "()", ""),
+    (Moving, "casts", "(links, first, second)", ""),
+    (Several, "casts", "(links, first, second)", ""),
 )
 
-GENERATORS = (("rings", "all_layings"), ("kinds", "side_rows"), ("stretches", "all_rows"))
-RESULTS = (Tie, Shared, Hole, OddRing, Breach, Sides, KindRing, Fleeting, Clash, Look, Gap, Bars, Least, Holed, Floor)
+GENERATORS = (("rings", "all_layings"), ("kinds", "side_rows"), ("stretches", "all_rows"), ("walks", "walk_left"),
+              ("walks", "walk_right"), ("links", "ways_between"))
+RESULTS = (Tie, Shared, Hole, OddRing, Breach, Sides, KindRing, Fleeting, Clash, Look, Gap, Bars, Least, Holed, Floor,
+           Part, Unclear, NoWay, Moving, Several)
 
 
 def split_names(text):
@@ -114,7 +139,7 @@ class InterfaceTest(unittest.TestCase):
                 if method_arguments is None:
                     self.assertIsInstance(thing, property)
                 else:
-                    due = method_arguments.replace("(", "(self, ").replace(", )", ")")
+                    due = method_arguments.replace("(", "(self, ", 1).replace("(self, )", "(self)")
                     self.assertEqual(str(inspect.signature(thing)), due, name)
         self.assertEqual(str(inspect.signature(Kinds.in_ring)), "(many)")
 
