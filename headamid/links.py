@@ -68,9 +68,9 @@ def flat_links(links):
 def ways_between(links, c, target):
     """Yields all ways from a class to a target, depth first, bases in their order."""
     world = links.world
-    check_class(world, c)
+    way = (check_class(world, c),)
     check_class(world, target)
-    yield from ways_on(world, (c,), target)
+    yield from ways_on(world, way, target)
 
 
 def ways_on(world, way, target):

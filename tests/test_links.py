@@ -127,6 +127,10 @@ class LinksTest(unittest.TestCase):
                 self.assertEqual(caught(BadLink, links.with_class, (1, 0), 0, [0, 1][:index] + [thing, None]),
                                  {"index": index})
         self.assertEqual(caught(BadLink, links.with_class, (0, 1), 0, (1, 0, 1)), {"index": 2})
+        some = Links(DIAMOND, [(1, 0), (3, 2)])
+        for shared_bases, index in (((2,), 0), ((0, 2), 1), ((0, 1, 0), 2), ((1, 0, None), 2), ([1, 0], None)):
+            due = None if index is None else {"index": index}
+            self.assertEqual(caught(BadLink, some.with_class, (0, 1), 0, shared_bases), due)
 
     def test_later_changes_have_no_effect(self):
         link = [1, 0]
