@@ -1,4 +1,4 @@
-"""Whole numbers, sequences and orders among things of any kind."""
+"""Whole numbers, sequences, orders and forms among things of any kind."""
 
 
 def is_sequence(thing):
@@ -34,3 +34,15 @@ def is_order(thing, many):
 def is_whole_couple(thing):
     """Whether a thing is a sequence of two whole numbers."""
     return is_sequence(thing) and len(thing) == 2 and is_whole(thing[0]) and is_whole(thing[1])
+
+
+def has_form(thing, forms):
+    """Whether a thing is a sequence that begins with a word and has as many items as a form, (word, number), tells."""
+    if not is_sequence(thing) or len(thing) == 0 or not isinstance(thing[0], str):
+        return False
+    return (thing[0], len(thing)) in forms
+
+
+def tuple_throughout(row):
+    """The row as a tuple, with tuples in the place of the sequences in it."""
+    return tuple([tuple(item) if is_sequence(item) else item for item in row])

@@ -4,6 +4,9 @@ import itertools
 import random
 
 from headamid.kinds import kept_fault
+from headamid.ladders import fewest_hues
+from headamid.layings import Laying
+from headamid.setups import Setup
 from headamid.worlds import World
 
 # Things that equal or resemble the numbers 0 and 1, and things of other kinds.
@@ -174,3 +177,117 @@ def ringed_worlds(seed, many, most_classes, most_in_all):
         if len(entries) <= most_classes and len(world.all_fields) <= most_in_all:
             found.append(world)
     return found
+
+
+def name_worlds(seed, many, most_classes=7, most_fields=1):
+    """Worlds whose classes often define the same few names."""
+    rng = random.Random(seed)
+    names = ((), (), (0,), (1,), (1, 0), (0, 5), (2, 1, 0))
+    found = []
+    for _ in range(many):
+        entries = []
+        for c in range(rng.randint(1, most_classes)):
+            bases = rng.sample(range(c), rng.randint(0, min(c, 3)))
+            entries.append((bases, rng.randint(0, most_fields), rng.choice(names)))
+        found.append(World(entries))
+    return found
+
+
+def due_answers(world, c, lot):
+    """The answers of a class for a name that the classes of a lot define, judged by the heirs."""
+    row = {k for k in (c, *world.elders[c]) if k in lot}
+    return tuple(k for k in sorted(row) if not set(world.heirs[k]) & row)
+
+
+def definers_in(world, name):
+    """The classes that define a name."""
+    return tuple(c for c, methods in enumerate(world.methods) if name in methods)
+
+
+def all_parts(row):
+    """All parts of a row, as tuples, the shorter ones first."""
+    return [part for size in range(len(row) + 1) for part in itertools.combinations(row, size)]
+
+
+def random_places(rng, many, farthest):
+    """Some places that are often met again."""
+    return tuple(rng.choice([place for place in range(-farthest, farthest + 1) if place]) for _ in range(many))
+
+
+def upward(world, c):
+    """A class and its elders."""
+    return sorted((c, *world.elders[c]))
+
+
+WORDS = ("make", "view", "take", "take", "test", "put", "put", "get", "call", "call", "call")
+
+
+def drawn_steps(rng, world, many, begin=(), words=WORDS):
+    """The steps of a right program, tuples and lists, that begin with these, and the views of its names."""
+    steps, views = list(begin), [step[2] for step in begin if step[0] in ("make", "view", "take")]
+    while len(steps) < many:
+        step = drawn_step(rng, world, views, words)
+        if step is not None:
+            steps.append(rng.choice((tuple, list))(step))
+            if step[0] in ("make", "view", "take"):
+                views.append(step[2])
+    return steps, tuple(views)
+
+
+def drawn_step(rng, world, views, words):
+    """A right step behind steps that brought in names with these views; None if the drawn form has none."""
+    word = rng.choice(words)
+    if word == "make" or not views:
+        c = rng.randrange(len(world))
+        return "make", c, rng.choice(upward(world, c))
+    name = rng.randrange(len(views))
+    among = upward(world, views[name])
+    if word == "view":
+        return word, name, rng.choice(among)
+    if word in ("take", "test"):
+        return word, name, rng.randrange(len(world))
+    rows = [m for k in among for m in world.methods[k]] if word == "call" else [
+        (k, i) for k in among for i in range(world.owns[k])]
+    if not rows:
+        return None
+    thing = rng.choice(rows)
+    if word == "call":
+        return word, name, thing
+    field = rng.choice((tuple, list))(thing)
+    return (word, name, field, rng.randint(-9, 9)) if word == "put" else (word, name, field)
+
+
+def as_tuples(thing):
+    """The thing with tuples in the place of all lists."""
+    return tuple(as_tuples(item) for item in thing) if isinstance(thing, (list, tuple)) else thing
+
+
+def entries_in(world, c=None):
+    """The entries of a world, or those of a class and its elders, judged by the methods of the elders."""
+    rows = range(len(world)) if c is None else upward(world, c)
+    return tuple((k, name) for k in rows for name in world.methods[k]
+                 if not any(name in world.methods[elder] for elder in world.elders[k]))
+
+
+def good_rows(rng, world):
+    """Good places for the fields, good table places and good hues of a world, as far as they are found."""
+    many, entries = len(world.all_fields), entries_in(world)
+    names = sorted({name for _, name in entries})
+    rng.shuffle(names)
+    side = rng.choice((1, -1))
+    return (tuple(side * (k + 1) for k in rng.sample(range(many), many)),
+            tuple(side * (names.index(name) + 1) for _, name in entries),
+            tuple(fewest_hues(world)) if len(world) < 9 else tuple(range(8)) + (0,) * (len(world) - 8))
+
+
+def drawn_setup(rng, world):
+    """A setup, good or with some spoiled places or hues."""
+    places, table, hues = good_rows(rng, world)
+    for _ in range(rng.choice((0, 0, 1, 1, 2, 5))):
+        spoiled = rng.choice((-2, -1, 1, 2))
+        what = rng.randrange(3)
+        row = list((places, table, hues)[what])
+        if row:
+            row[rng.randrange(len(row))] = spoiled if what < 2 else rng.randrange(3)
+        places, table, hues = [tuple(row) if k == what else old for k, old in enumerate((places, table, hues))]
+    return Setup(world, Laying(world, places), table, hues)

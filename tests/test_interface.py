@@ -4,6 +4,7 @@ import importlib
 import inspect
 import unittest
 
+from headamid.byname import Run
 from headamid.casts import Moving, NoWay, Several, Unclear
 from headamid.declaring import Declaring
 from headamid.floors import Floor, Holed
@@ -14,8 +15,11 @@ from headamid.ladders import Clash, Ladders, Look
 from headamid.lasting import Fleeting
 from headamid.layings import Hole, Laying, Shared
 from headamid.links import Links
+from headamid.naming import NotLet, TwoKinds
 from headamid.partobjects import Part
+from headamid.programs import Program
 from headamid.rings import OddRing
+from headamid.setups import Setup, SetupFault
 from headamid.stretches import Bars, Gap, StretchRow
 from headamid.ties import Tie
 from headamid.worlds import World
@@ -56,6 +60,13 @@ FUNCTIONS = {
              "steady_way(links, way) one_part(links, target)",
     "definers": "check_name(name) defining_of(world, c, name) answers_of(world, c, name) definer_of(world, c, name) "
                 "two_answers(world) answers_to_come(world, bases, name) off_line(world, name)",
+    "clearing": "lot_answers(world, lot, c) unclear_in(world, lot) least_clear(world, lot) missing_methods(world)",
+    "tables": "all_entries(world) entries_of(world, c) entry_world(world) entry_field(world, entry) "
+              "table_laid(world) table_row(world, laying, c) call_by_table(world, laying, view, c, name)",
+    "naming": "check_lets(kinds, lets) lets_fault(world, kinds, given, lets) naming_fault(kinds, lets) "
+              "naming_world(kinds, lets) table_kinds(kinds, lets) table_ring_world(kinds, lets)",
+    "byname": "run_names(world, program) unlike_program(world, view, first, second)",
+    "setups": "extends_setup(later, earlier) setup_fault(setup)",
 }
 
 # Each class with its module, its constructor's arguments, and its methods and properties.
@@ -96,12 +107,18 @@ CLASSES = (
     (NoWay, "casts", "()", ""),
     (Moving, "casts", "(links, first, second)", ""),
     (Several, "casts", "(links, first, second)", ""),
+    (NotLet, "naming", "(cls, name)", ""),
+    (TwoKinds, "naming", "(name, first, second)", ""),
+    (Program, "programs", "(world, steps)", ""),
+    (Run, "byname", "(results, objects)", ""),
+    (Setup, "setups", "(world, laying, table, hues)", ""),
+    (SetupFault, "setups", "(what, cls, at)", ""),
 )
 
 GENERATORS = (("rings", "all_layings"), ("kinds", "side_rows"), ("stretches", "all_rows"), ("walks", "walk_left"),
               ("walks", "walk_right"), ("links", "ways_between"))
 RESULTS = (Tie, Shared, Hole, OddRing, Breach, Sides, KindRing, Fleeting, Clash, Look, Gap, Bars, Least, Holed, Floor,
-           Part, Unclear, NoWay, Moving, Several)
+           Part, Unclear, NoWay, Moving, Several, NotLet, TwoKinds, Run, SetupFault)
 
 
 def split_names(text):
