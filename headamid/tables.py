@@ -49,7 +49,6 @@ def entry_places(world, places):
 
 def table_row(world, laying, c):
     """For each cell of the table of c the entries that lie there with their answers, "head" for cell 0."""
-    check_class(world, c)
     longer = entry_world(world)
     entries = {field: entry for field, entry in zip(longer.all_fields, all_entries(world))}
     row = []

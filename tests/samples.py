@@ -281,7 +281,10 @@ def good_rows(rng, world):
 
 
 def drawn_setup(rng, world):
-    """A setup, good or with some spoiled places or hues."""
+    """A setup, good, with some spoiled places or hues, or with all of them drawn."""
+    if rng.random() < 0.3:
+        return Setup(world, Laying(world, random_places(rng, len(world.all_fields), 3)),
+                     random_places(rng, len(entries_in(world)), 3), [rng.randrange(3) for _ in world])
     places, table, hues = good_rows(rng, world)
     for _ in range(rng.choice((0, 0, 1, 1, 2, 5))):
         spoiled = rng.choice((-2, -1, 1, 2))
@@ -291,3 +294,82 @@ def drawn_setup(rng, world):
             row[rng.randrange(len(row))] = spoiled if what < 2 else rng.randrange(3)
         places, table, hues = [tuple(row) if k == what else old for k, old in enumerate((places, table, hues))]
     return Setup(world, Laying(world, places), table, hues)
+
+
+def later_setup(rng, setup):
+    """A setup that extends this one by a class."""
+    many = len(setup.world)
+    world = setup.world.with_class(rng.sample(range(many), rng.randint(0, min(3, many))), rng.randint(0, 2),
+                                   rng.sample(range(6), rng.randint(0, 2)))
+    more = random_places(rng, len(world.all_fields) - len(setup.laying.places), 4)
+    table = setup.table + random_places(rng, len(entries_in(world)) - len(setup.table), 4)
+    return Setup(world, Laying(world, setup.laying.places + more), table, setup.hues + (rng.randint(0, 7),))
+
+
+def random_edit(rng, world):
+    """An edit of one of the forms, often one that is not refused."""
+    many = len(world)
+    c, name = rng.randrange(many), rng.randrange(6)
+    word = rng.choice(("field", "unfield", "method", "unmethod", "base", "base", "unbase", "unbase", "class", "unclass"))
+    if word in ("field", "unfield"):
+        row = (word, c)
+    elif word in ("method", "unmethod"):
+        row = (word, c, rng.choice(world.methods[c]) if word == "unmethod" and world.methods[c] else name)
+    elif word == "base":
+        row = (word, c, rng.randrange(max(c, 1)), rng.randint(0, len(world.bases[c])))
+    elif word == "unbase":
+        row = (word, c, rng.choice(world.bases[c]) if world.bases[c] else 0)
+    elif word == "class":
+        bases = rng.sample(range(many), rng.randint(0, min(3, many)))
+        row = (word, rng.choice((list, tuple))(bases), rng.randint(0, 2), rng.sample(range(6), rng.randint(0, 2)))
+    else:
+        row = (word,)
+    return rng.choice((list, tuple))(row)
+
+
+def due_edited(world, edit):
+    """The world after an edit, or the word for which it is refused, judged apart from the package."""
+    sizes = {"field": 2, "unfield": 2, "method": 3, "unmethod": 3, "base": 4, "unbase": 3, "class": 4, "unclass": 1}
+    if not isinstance(edit, (list, tuple)) or not edit or type(edit[0]) is not str or sizes.get(edit[0]) != len(edit):
+        return "form"
+    word, many = edit[0], len(world)
+    rows = [[list(bases), fields, list(methods)] for bases, fields, methods in world]
+    whole = [type(thing) is int for thing in edit]
+    if word == "class":
+        if many == 12:
+            return "many"
+        try:
+            return World(rows + [edit[1:]])
+        except ValueError:
+            return "class"
+    if word == "unclass":
+        return "many" if many == 1 else World(rows[:-1])
+    if not whole[1] or not 0 <= edit[1] < many:
+        return "class"
+    return due_changed(rows, edit, whole)
+
+
+def due_changed(rows, edit, whole):
+    word, c = edit[:2]
+    row = rows[c]
+    if word in ("field", "unfield"):
+        row[1] += 1 if word == "field" else -1
+        return World(rows) if row[1] in (0, 1, 2, 3) else "many"
+    if word in ("method", "unmethod"):
+        if not whole[2] or edit[2] not in range(6):
+            return "name"
+        if (edit[2] in row[2]) == (word == "method"):
+            return "method"
+        (row[2].append if word == "method" else row[2].remove)(edit[2])
+        return World(rows) if len(row[2]) < 4 else "many"
+    if word == "unbase":
+        if not whole[2] or edit[2] not in row[0]:
+            return "base"
+        row[0].remove(edit[2])
+        return World(rows)
+    if not whole[2] or edit[2] not in range(c) or edit[2] in row[0]:
+        return "base"
+    if not whole[3] or edit[3] not in range(len(row[0]) + 1):
+        return "place"
+    row[0].insert(edit[3], edit[2])
+    return World(rows)

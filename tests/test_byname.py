@@ -191,6 +191,7 @@ class UnlikeTest(unittest.TestCase):
         three = World([((), 0, (1,)), ((0,), 0, (1,)), ((0,), 0, (1,)), ((0,), 0, (1,)), ((1, 2), 0, ()),
                        ((1, 2, 3), 0, ()), ((3, 1), 0, ())])
         self.assertIsNone(unlike_program(three, 0, 4, 5))
+        self.assertIsNone(unlike_program(three, 0, 5, 4))
         self.assertEqual(unlike_program(three, 0, 5, 6), (("make", 5, 0), ("call", 0, 1)))
 
     def test_refused_in_order(self):

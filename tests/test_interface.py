@@ -4,6 +4,8 @@ import importlib
 import inspect
 import unittest
 
+from headamid.bench import Bench
+from headamid.bycells import CellRun, ClassRow, Code, Machine
 from headamid.byname import Run
 from headamid.casts import Moving, NoWay, Several, Unclear
 from headamid.declaring import Declaring
@@ -20,6 +22,7 @@ from headamid.partobjects import Part
 from headamid.programs import Program
 from headamid.rings import OddRing
 from headamid.setups import Setup, SetupFault
+from headamid.staying import Moved
 from headamid.stretches import Bars, Gap, StretchRow
 from headamid.ties import Tie
 from headamid.worlds import World
@@ -67,6 +70,12 @@ FUNCTIONS = {
               "naming_world(kinds, lets) table_kinds(kinds, lets) table_ring_world(kinds, lets)",
     "byname": "run_names(world, program) unlike_program(world, view, first, second)",
     "setups": "extends_setup(later, earlier) setup_fault(setup)",
+    "bycells": "machine_of(setup) compile_program(setup, program) run_code(machine, code) run_cells(setup, program)",
+    "parting": "parting_program(setup)",
+    "edits": "edited_world(world, edit) edited_all(world, edits) undo_of(world, edit) moved_fields(laying, later)",
+    "staying": "free_sides(world, laying, c) stayed_laying(world, laying, edit) least_moved(world, laying, edit)",
+    "mends": "goals_met(world, goals) find_mends(world, pool, goals) find_spoilers(world, pool, goals) "
+             "mend_fault(world, pool, goals, mend)",
 }
 
 # Each class with its module, its constructor's arguments, and its methods and properties.
@@ -113,12 +122,20 @@ CLASSES = (
     (Run, "byname", "(results, objects)", ""),
     (Setup, "setups", "(world, laying, table, hues)", ""),
     (SetupFault, "setups", "(what, cls, at)", ""),
+    (ClassRow, "bycells", "(places, table, ladders)", ""),
+    (Machine, "bycells", "(rows)", ""),
+    (Code, "bycells", "(steps)", ""),
+    (CellRun, "bycells", "(results, objects, looks)", ""),
+    (Moved, "staying", "(number, laying)", ""),
+    (Bench, "bench", "(world)", "world_now laying_now edits_made shifts make_edit(edit) take_back() "
+                                "tried_edits(edits, goals)"),
 )
 
 GENERATORS = (("rings", "all_layings"), ("kinds", "side_rows"), ("stretches", "all_rows"), ("walks", "walk_left"),
               ("walks", "walk_right"), ("links", "ways_between"))
 RESULTS = (Tie, Shared, Hole, OddRing, Breach, Sides, KindRing, Fleeting, Clash, Look, Gap, Bars, Least, Holed, Floor,
-           Part, Unclear, NoWay, Moving, Several, NotLet, TwoKinds, Run, SetupFault)
+           Part, Unclear, NoWay, Moving, Several, NotLet, TwoKinds, Run, SetupFault, ClassRow, Machine, Code, CellRun,
+           Moved)
 
 
 def split_names(text):

@@ -9,7 +9,8 @@ from headamid.layings import Laying
 from headamid.setups import Setup, SetupFault, extends_setup, setup_fault
 from headamid.worlds import World
 from tests.samples import (
-    NO_SEQUENCES, ONE, SAME, caught, drawn_setup, entries_in, name_worlds, plain_world, random_worlds, told, upward,
+    NO_SEQUENCES, ONE, SAME, caught, drawn_setup, entries_in, later_setup, name_worlds, plain_world, random_worlds,
+    told, upward,
 )
 
 # The entries are (0, 0), (1, 0), (1, 4) and (3, 5); class 3 has all of them.
@@ -97,16 +98,9 @@ class SetupTest(unittest.TestCase):
 class ExtendsTest(unittest.TestCase):
     def longer(self, rng, setup, classes=1):
         """A setup with some classes more, all else the same."""
-        world, fields, entries = setup.world, setup.laying.places, setup.table
-        hues = setup.hues
         for _ in range(classes):
-            many = len(world)
-            world = world.with_class(rng.sample(range(many), rng.randint(0, min(3, many))), rng.randint(0, 2),
-                                     rng.sample(range(6), rng.randint(0, 2)))
-            hues += (rng.randint(0, 7),)
-        fields += tuple(rng.choice((-2, -1, 1, 2, 99)) for _ in range(len(world.all_fields) - len(fields)))
-        entries += tuple(rng.choice((-2, -1, 1, 2, 99)) for _ in range(len(entries_in(world)) - len(entries)))
-        return Setup(world, Laying(world, fields), entries, hues)
+            setup = later_setup(rng, setup)
+        return setup
 
     def changed(self, row):
         """The row with each item in turn changed."""
@@ -167,7 +161,7 @@ class FaultTest(unittest.TestCase):
         rng = random.Random(1605)
         seen = {}
         for world in name_worlds(1606, 150, 7, 2) + random_worlds(1607, 100, 8, 2, methods=True):
-            for _ in range(6):
+            for _ in range(10):
                 setup = drawn_setup(rng, world)
                 found = setup_fault(setup)
                 due = due_fault(setup)
