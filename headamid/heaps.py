@@ -36,7 +36,7 @@ class Heap:
     def counts(self):
         """For each class how many objects made as this very class are not dropped."""
         made = [self._classes[address] for address in self._classes]
-        return tuple([made.count(c) for c in range(len(self.world.classes))])
+        return tuple([len([k for k in made if k == c]) for c in range(len(self.world.classes))])
 
     def make_object(self, c):
         """Puts a new object of a class behind the last cell and returns its address."""

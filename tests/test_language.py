@@ -129,7 +129,60 @@ def walked_and_changed(function):
     return found
 
 
+def functions_in(trees):
+    """All functions and methods of some files, with their names."""
+    return [node for tree in trees for node in ast.walk(tree) if isinstance(node, ast.FunctionDef)]
+
+
+def is_quiet(function):
+    """Whether a function is a property, or a double-underscore method other than __init__."""
+    decorators = [ast.unparse(item) for item in function.decorator_list]
+    return "property" in decorators or (function.name.startswith("__") and function.name != "__init__")
+
+
+def attribute_names(trees):
+    """The names of all attributes that some files assign."""
+    return {node.attr for tree in trees for node in ast.walk(tree)
+            if isinstance(node, ast.Attribute) and isinstance(node.ctx, ast.Store)}
+
+
+def called_names(function):
+    """The names by which a function calls: bare ones, and those behind a dot."""
+    calls = [node.func for node in ast.walk(function) if isinstance(node, ast.Call)]
+    return ({call.id for call in calls if isinstance(call, ast.Name)},
+            {call.attr for call in calls if isinstance(call, ast.Attribute)})
+
+
+def calls_of_held_things(trees):
+    """Each name of an attribute by which a property or an operator, or what it calls, calls something."""
+    functions, held = functions_in(trees), attribute_names(trees)
+    waiting, seen, found = [node for node in functions if is_quiet(node)], [], []
+    while waiting:
+        function = waiting.pop()
+        seen.append(function)
+        bare, dotted = called_names(function)
+        arguments = {argument.arg for argument in function.args.args}
+        found += [(function.name, name) for name in sorted((dotted & held) | (bare & arguments))]
+        waiting += [node for node in functions if node.name in bare | dotted and node not in seen + waiting]
+    return found
+
+
 class LanguageTest(unittest.TestCase):
+    def test_properties_call_nothing_that_they_hold(self):
+        self.assertEqual(calls_of_held_things(list(TREES.values())), [])
+
+    def test_calls_of_held_things_are_seen(self):
+        error = "class TooMany(ValueError):\n  def __init__(self, count):\n    self.count = count\n"
+        for rows in ("class Heap:\n  @property\n  def counts(self):\n    return self.made.count(1)",
+                     "def many(made):\n  return made.count(1)\nclass Heap:\n  def __len__(self):\n    return many(self.made)",
+                     "class Heap:\n  @property\n  def first(self):\n    return self.told()\n  def told(self):\n"
+                     "    return self.made.count(2)",
+                     "class Heap:\n  def __eq__(self, other):\n    return other()"):
+            self.assertEqual(len(calls_of_held_things([ast.parse(error), ast.parse(rows)])), 1)
+        for rows in ("class Heap:\n  @property\n  def counts(self):\n    return len(self.made)",
+                     "class Heap:\n  def counts(self):\n    return self.made.count(1)"):
+            self.assertEqual(calls_of_held_things([ast.parse(error), ast.parse(rows)]), [])
+
     def test_what_a_loop_goes_over_is_not_changed_in_it(self):
         for path, tree in TREES.items():
             for node in ast.walk(tree):
